@@ -1,0 +1,1 @@
+"""Dawkline: a network of mail hosts that survives crashes."""
