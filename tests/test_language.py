@@ -26,6 +26,16 @@ BUILTINS = set(
     " ArithmeticError OverflowError RuntimeError NotImplementedError AttributeError StopIteration"
     " NotImplemented".split())
 OTHER_BUILTINS = set(dir(__builtins__) if not isinstance(__builtins__, dict) else __builtins__) - BUILTINS
+METHODS = set(
+    "append clear copy count endswith extend find get index insert isalnum isalpha isdigit islower isspace"
+    " isupper items join keys ljust lower lstrip partition pop remove replace reverse rfind rjust rpartition"
+    " rsplit rstrip setdefault split splitlines startswith strip update upper values zfill bit_length title"
+    " capitalize swapcase casefold center expandtabs removeprefix removesuffix rindex isascii isdecimal"
+    " isnumeric istitle isidentifier isprintable translate maketrans sort format __init__".split())
+BARRED_WORDS = set(
+    "register mro elements open input law version_info with_traceback add_note type typing enum compile"
+    " copyright credits delattr dir eval exec exit gc globals help id importlib license locals os quit"
+    " setattr super vars sys".split())
 PLAIN_STATEMENTS = (ast.ImportFrom, ast.FunctionDef, ast.ClassDef, ast.Assign, ast.Expr)
 DECORATORS = re.compile(r"property|staticmethod|classmethod|\w+\.setter")
 
@@ -113,6 +123,34 @@ class Statements(unittest.TestCase):
                 self.assertNotIn(node.id, BUILTINS, (name, node.lineno))
         for name, node in nodes(ast.arg):
             self.assertNotIn(node.arg, BUILTINS | OTHER_BUILTINS, (name, node.lineno))
+
+    def test_l17_names_that_are_not_used(self):
+        for name, node in nodes((ast.FunctionDef, ast.ClassDef)):
+            self.assertNotIn(node.name, BARRED_WORDS, (name, node.lineno))
+        for name, node in nodes(ast.arg):
+            self.assertNotIn(node.arg, BARRED_WORDS, (name, node.lineno))
+        for name, node in nodes(ast.Name):
+            if isinstance(node.ctx, ast.Store):
+                self.assertNotIn(node.id, BARRED_WORDS, (name, node.lineno))
+
+    def test_l25_l26_methods_that_are_called(self):
+        own = {node.name for _, node in nodes(ast.FunctionDef)}
+        for name, node in nodes(ast.Call):
+            if isinstance(node.func, ast.Attribute):
+                self.assertIn(node.func.attr, METHODS | own, (name, node.lineno))
+
+    def test_l18_no_name_is_a_method_and_an_attribute(self):
+        for name, node in nodes(ast.ClassDef):
+            methods = {part.name for part in node.body if isinstance(part, ast.FunctionDef)}
+            attributes = {part.attr for part in ast.walk(node)
+                          if isinstance(part, ast.Attribute) and isinstance(part.ctx, ast.Store)}
+            self.assertEqual(methods & attributes, set(), (name, node.name))
+
+    def test_l20_is_stands_beside_none_and_truth(self):
+        for name, node in nodes(ast.Compare):
+            for sign, side in zip(node.ops, node.comparators):
+                if isinstance(sign, (ast.Is, ast.IsNot)):
+                    self.assertIn(ast.unparse(side), ("None", "True", "False"), (name, node.lineno))
 
     def test_l7_no_float_and_no_division(self):
         for name, node in nodes((ast.Div, ast.Constant)):
