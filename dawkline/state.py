@@ -109,7 +109,8 @@ class State:
         return [self._enqueue(tag, sender, recipient, self._traced(lines), via, time)]
 
     def _doubt(self, tag, peer):
-        self.queue[tag].doubt = peer
+        item = self.queue[tag]
+        item.doubt = peer
         return []
 
     def _retry(self, tag, tries, due):
