@@ -57,13 +57,14 @@ class Disk:
         """Spend the power of up to so many steps, and return for how many of them it lasts."""
         if self._power is None:
             return steps
-        lasting = min(steps, self._power)
+        # A limit below 0 leaves no power, too.
+        lasting = max(0, min(steps, self._power))
         self._power = self._power - lasting
         return lasting
 
     def _make_durable(self, file, many):
         """Let the first pending steps of a file take effect, and drop the others."""
-        self._durable[file] = content_after(self._durable[file], self._steps[file][:many])
+        self._durable[file] = content_after(self._durable[file], self._steps[file][:max(0, many)])
         self._steps[file] = []
 
 

@@ -262,6 +262,18 @@ class Power(Checks):
         self.assert_no_power(disk)
         self.assert_disk(disk, [[1], []], [1, 0])
 
+    def test_a_limit_below_zero_is_no_power(self):
+        for steps in (-1, -2, -100):
+            disk = Disk()
+            disk.append(0, [1, 2, 3])
+            disk.limit(steps)
+            self.assert_no_power(disk)
+            disk.append(0, [])
+            self.assert_disk(disk, [[1, 2, 3], []], [3, 0])
+            disk.limit(1)
+            disk.append(1, [4])
+            self.assert_disk(disk, [[1, 2, 3], [4]], [3, 1])
+
     def test_one_step(self):
         for word, arguments, contents, pending in (
                 ("append", (1, [9]), [[1], [9]], [1, 1]), ("clear", (0,), [[], []], [2, 0]),
@@ -406,6 +418,11 @@ class Crashes(Checks):
         disk = self.made()
         disk.crash(10 ** 30, 10 ** 30)
         self.assert_disk(disk, [[1, 2, 4, 5], [6, 7]], [0, 0])
+
+    def test_numbers_below_zero_keep_nothing(self):
+        disk = self.made()
+        disk.crash(-1, -2)
+        self.assert_disk(disk, [[1, 2], [3]], [0, 0])
 
     def test_a_second_crash_changes_nothing(self):
         disk = self.made()

@@ -146,6 +146,22 @@ class Statements(unittest.TestCase):
                           if isinstance(part, ast.Attribute) and isinstance(part.ctx, ast.Store)}
             self.assertEqual(methods & attributes, set(), (name, node.name))
 
+    def test_l18_attributes_are_assigned_through_a_local_name(self):
+        for name, node in nodes(ast.Attribute):
+            if not isinstance(node.ctx, ast.Load):
+                self.assertIsInstance(node.value, ast.Name, (name, node.lineno))
+
+    def test_l15_no_local_name_is_that_of_an_import_or_a_class(self):
+        for name, text in sources():
+            tree = ast.parse(text)
+            barred = {node.name for node in tree.body if isinstance(node, ast.ClassDef)}
+            barred |= {alias.name for node in tree.body if isinstance(node, ast.ImportFrom) for alias in node.names}
+            for node in ast.walk(tree):
+                if isinstance(node, ast.arg):
+                    self.assertNotIn(node.arg, barred, (name, node.lineno))
+                if isinstance(node, ast.Name) and isinstance(node.ctx, ast.Store):
+                    self.assertNotIn(node.id, barred, (name, node.lineno))
+
     def test_l20_is_stands_beside_none_and_truth(self):
         for name, node in nodes(ast.Compare):
             for sign, side in zip(node.ops, node.comparators):
