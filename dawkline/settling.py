@@ -50,9 +50,9 @@ def finish_connections(world):
     """Cut one connection after the other, and let its lines arrive at the server."""
     for number in range(len(world.connections)):
         world.move(("cut", number))
-        arriving = True
-        while arriving:
-            arriving = world.move(("to_server", number))
+        # Behind the cut no line is added to those on their way to the server.
+        for _ in list(world.connections[number].to_server):
+            world.move(("to_server", number))
 
 
 def work_all(world):
